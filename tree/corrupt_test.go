@@ -299,8 +299,8 @@ func TestATurnedBit(t *testing.T) {
 
 // TestTheOrderOfRefusals: what the arguments are comes ahead of what the pages are, and that ahead of what room there is.
 func TestTheOrderOfRefusals(t *testing.T) {
-	x, d := grown(t, 60, 20)
-	drained(t, x, d, 0)
+	whole, on := grown(t, 60, 20)
+	x, d := packed(t, whole, on, 0)
 	root, long := x.now.root, make([]byte, 65)
 	mustTell(t, x.Put([]byte("k"), nil), api.ErrFull, "5.2: Put without room")
 	d.Flip(root, 99)

@@ -24,10 +24,10 @@ func (t *Tree) change(how func(*edit) bool) api.Errno {
 		if !how(x) {
 			return api.OK
 		}
-		if x.root.fresh() > t.store.Left() {
+		if !t.makeRoom(x) {
 			return api.ErrFull
 		}
-		root, e := x.lay(x.root)
+		root, e := x.lay(t.store, x.root)
 		if e != api.OK {
 			return e
 		}
@@ -38,9 +38,7 @@ func (t *Tree) change(how func(*edit) bool) api.Errno {
 
 func (t *Tree) take(x *edit, root place) {
 	t.now.root, t.now.depth, t.now.keys = int(root), x.depth, x.keys
-	for _, p := range x.gone {
-		t.now.pages.drop(int(p))
-	}
+	t.now.pages.dropAll(x.gone)
 	for _, p := range x.laid {
 		t.now.pages.add(int(p))
 	}
@@ -48,20 +46,20 @@ func (t *Tree) take(x *edit, root place) {
 }
 
 // lay lays down what is fresh, the children ahead of what leads to them.
-func (x *edit) lay(n node) (place, api.Errno) {
+func (x *edit) lay(s *page.Store, n node) (place, api.Errno) {
 	if p, ok := n.(place); ok {
 		return p, api.OK
 	}
 	if b, ok := n.(*branch); ok {
 		for i, c := range b.children {
-			p, e := x.lay(c)
+			p, e := x.lay(s, c)
 			if e != api.OK {
 				return noPage, e
 			}
 			b.children[i] = p
 		}
 	}
-	id, e := x.store.Put(bytesOf(n))
+	id, e := s.Put(bytesOf(n))
 	if e != api.OK {
 		return noPage, e
 	}

@@ -238,23 +238,40 @@ func mustHaveRoom(t *testing.T, x *Tree, d *disk.Disk, why string) {
 	}
 }
 
-// drained is a tree that has so many pages left: a key of the root, put once more, takes one page.
-func drained(t *testing.T, x *Tree, d *disk.Disk, left int) {
+// packed is a tree of the same pages, with other numbers, on a disk on which so many more are left.
+func packed(t *testing.T, x *Tree, d *disk.Disk, left int) (*Tree, *disk.Disk) {
 	t.Helper()
-	for x.Left() > left {
-		s, _ := page.Open(d)
-		b, e := s.Get(x.now.root)
-		mustTell(t, e, api.OK, "5.5: the root")
-		it := itemsOf(nodeOf(b))[0]
-		was := x.Left()
-		mustTell(t, x.Put(it.key, it.value), api.OK, "5.2: Put of a key that is there")
-		if x.Left() != was-1 {
-			t.Fatalf("5.5: a key of the root took %d pages", was-x.Left())
+	from, e := page.Open(d)
+	mustTell(t, e, api.OK, "4.1: Open")
+	smaller := newDisk(t, x.Pages()+left+2)
+	to, e := page.Open(smaller)
+	mustTell(t, e, api.OK, "4.1: Open")
+	root := x.now.root
+	if root != noPage {
+		root = copied(t, from, to, root)
+	}
+	mustTell(t, to.Commit(root), api.OK, "4.3: Commit")
+	y := mustOpen(t, smaller)
+	if y.Left() != left || y.Len() != x.Len() || y.Depth() != x.Depth() {
+		t.Fatalf("5.5: a tree of the same pages: %v, not %v with %d left", allTold(y), allTold(x), left)
+	}
+	return y, smaller
+}
+
+// copied is the number under which a page stands in another Store, behind what it leads to.
+func copied(t *testing.T, from, to *page.Store, id int) int {
+	t.Helper()
+	b, e := from.Get(id)
+	mustTell(t, e, api.OK, "5.5: a page")
+	n := nodeOf(b)
+	if n, ok := n.(*branch); ok {
+		for i, c := range n.children {
+			n.children[i] = place(copied(t, from, to, int(c.(place))))
 		}
 	}
-	if x.Left() != left {
-		t.Fatalf("%d pages left, not %d", x.Left(), left)
-	}
+	id, e = to.Put(bytesOf(n))
+	mustTell(t, e, api.OK, "4.2: Put")
+	return id
 }
 
 // spacious is bytes with spare room, and all of the room.

@@ -209,7 +209,7 @@ func TestDeleteOfAKeyThatIsNot(t *testing.T) {
 	if d.Open() != 0 {
 		t.Error("5.2: Delete of a key that is not there writes")
 	}
-	drained(t, x, d, 0)
+	x, _ = packed(t, x, d, 0)
 	mustDelete(t, x, "no", false)
 }
 
